@@ -1,0 +1,1 @@
+"""Climbways: the longest rising ways in a table of numbers."""
