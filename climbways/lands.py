@@ -72,6 +72,12 @@ def is_cell(land, thing):
     return 0 <= row < len(table) and 0 <= place < len(table[0])
 
 
+def fits_table(land, thing):
+    """Whether a thing, of any kind, is a list of rows of whole numbers as the table of a checked land has them."""
+    table = land[0]
+    return is_table(thing) and len(thing) == len(table) and len(thing[0]) == len(table[0])
+
+
 def check_land(thing):
     """Refuse what is no land."""
     if not is_land(thing):

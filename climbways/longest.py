@@ -58,23 +58,37 @@ def onward(land, cell, left):
     return led
 
 
+def reckoned_by_jumps(land, most, reckon):
+    """What is reckoned of all cells, by cell, for each number of jumps left from 0 to most.
+
+    reckon takes a cell and the list of what was reckoned of all to which one move leads from it.
+    """
+    # What a cell leads to has a greater number, so from the top down each cell needs only what is known.
+    cells = cells_from_the_top(land)
+    reckoned = []
+    for left in range(most + 1):
+        reckoned.append({})
+        for cell in cells:
+            beyond = [reckoned[later][there] for there, later in onward(land, cell, left)]
+            reckoned[left][cell] = reckon(cell, beyond)
+    return reckoned
+
+
 def heights_by_jumps(land, most):
     """The heights of all cells, by cell, for each number of jumps left from 0 to most."""
-    # What a cell leads to has a greater number, so from the top down each height needs only known ones.
-    cells = cells_from_the_top(land)
-    heights = []
-    for left in range(most + 1):
-        heights.append({})
-        for cell in cells:
-            beyond = [heights[later][there] for there, later in onward(land, cell, left)]
-            heights[left][cell] = 1 + max(beyond, default=0)
-    return heights
+    return reckoned_by_jumps(land, most, lambda cell, beyond: 1 + max(beyond, default=0))
 
 
 def heights_with(land, j):
     """The heights of all cells with j jumps, by cell."""
     most = useful_jumps(land, j)
     return heights_by_jumps(land, most)[most]
+
+
+def in_rows(land, by_cell):
+    """What is held by cell, as a list of rows as the table has them."""
+    table = land[0]
+    return [[by_cell[(row, place)] for place in range(len(table[0]))] for row in range(len(table))]
 
 
 def height_of(land, j, cell):
@@ -89,9 +103,7 @@ def all_heights(land, j):
     """The heights of all cells with j jumps, as a list of rows."""
     check_land(land)
     check_jumps(j)
-    table = land[0]
-    heights = heights_with(land, j)
-    return [[heights[(row, place)] for place in range(len(table[0]))] for row in range(len(table))]
+    return in_rows(land, heights_with(land, j))
 
 
 def greatest_length(land, j):

@@ -3,6 +3,8 @@
 import itertools
 import random
 
+from climbways import errors
+
 GREAT = 10 ** 26 - 1
 
 RIGHT_AND_DOWN = [(0, 1), (1, 0)]
@@ -10,8 +12,66 @@ CROSS = [(-1, 0), (0, -1), (0, 1), (1, 0)]
 SLANT = [(-1, -1), (-1, 1), (1, -1), (1, 1)]
 
 
+# Steps lead along the row, jumps down the place.
+MIXED = ([[1, 2, 3], [4, 5, 6], [7, 8, 9]], [(0, 1)], [(1, 0)])
+
+JUMP_COUNTS = (0, 1, 2, 3, 40, GREAT)
+
+REFUSALS = ("NoLand", "NoCell", "NoNumber", "NoWay", "NoWeights", "NoText", "NoName", "NoRow")
+
+
 class Bare:
     """An object of no kind that the document tells of."""
+
+
+class Watched(int):
+    """A number that counts how often it is compared, and stops a test that compares without end."""
+
+    compared = 0
+    most = 300000
+
+    def count(self):
+        Watched.compared += 1
+        if Watched.compared > Watched.most:
+            raise AssertionError("cells are reckoned anew for each way")
+
+    def __gt__(self, other):
+        self.count()
+        return int(self) > int(other)
+
+    def __lt__(self, other):
+        self.count()
+        return int(self) < int(other)
+
+    def __ge__(self, other):
+        self.count()
+        return int(self) >= int(other)
+
+    def __le__(self, other):
+        self.count()
+        return int(self) <= int(other)
+
+
+def assert_refused(case, name, ask, *handed_in):
+    """That an asking is refused with the error of this name, and with none of the others."""
+    with case.assertRaises(ValueError) as caught:
+        ask(*handed_in)
+    case.assertIsInstance(caught.exception, errors.ClimbError)
+    for other in REFUSALS:
+        case.assertIs(isinstance(caught.exception, getattr(errors, other)), other == name, (other, handed_in))
+
+
+def assert_all_lists_unlike(case, *told):
+    """That no two of the lists, nor two within them, are one."""
+    lists = []
+    waiting = list(told)
+    while waiting:
+        thing = waiting.pop()
+        if isinstance(thing, list):
+            lists.append(thing)
+        if isinstance(thing, (list, tuple)):
+            waiting.extend(thing)
+    case.assertEqual(len({id(one) for one in lists}), len(lists))
 
 
 def other_kinds():
@@ -50,6 +110,18 @@ def ways_by_hand(land):
         for there in led_by_hand(land, way[-1], land[2]):
             open_ones.append((way + [there], jumps + 1))
     return told
+
+
+def let_by_hand(land, j):
+    """All ways of a land with at most j jumps, in the order of lists."""
+    return sorted(way for way, jumps in ways_by_hand(land) if jumps <= j)
+
+
+def longest_by_hand(land, j):
+    """The longest ways of a land with at most j jumps, in the order of lists."""
+    let = let_by_hand(land, j)
+    length = max(len(way) for way in let)
+    return [way for way in let if len(way) == length]
 
 
 def all_moves(reach):
@@ -99,6 +171,32 @@ def snake_way():
         places = range(6) if row % 2 == 0 else range(5, -1, -1)
         way.extend((row, place) for place in places)
     return way
+
+
+def layered_land(of=int):
+    """Six rows of six in twelve layers of three cells, half a row each, every layer to be gone through in turn.
+
+    From the layer ahead each cell leads to all three of the next one, from the border to the border by a jump.
+    """
+    table = [[of(2 * row + place // 3) for place in range(6)] for row in range(6)]
+    steps = [(0, 1), (0, 2), (0, 3), (0, 4), (1, -4), (1, -3), (1, -2), (1, -1)]
+    return (table, steps, [(0, 5), (1, -5)])
+
+
+def thronged_land(of=int):
+    """Six rows of six with sixteen moves ahead from each cell, and so with more ways than can be gone one by one."""
+    table = [[of(6 * row + place) for place in range(6)] for row in range(6)]
+    ahead = [move for move in all_moves(3) if move > (0, 0)]
+    return (table, ahead[0:16:2], ahead[1:16:2])
+
+
+def layered_way(number):
+    """With jumps enough the longest ways are numbered by one of three cells in each layer."""
+    way = []
+    for layer in range(11, -1, -1):
+        way.append((layer // 2, 3 * (layer % 2) + number % 3))
+        number //= 3
+    return way[::-1]
 
 
 def no_lands():
@@ -196,3 +294,26 @@ def no_cells(land):
 def no_jump_counts():
     """Things that are no numbers of jumps."""
     return other_kinds() + [-1, -2, -GREAT, "0", "1", [0], (0,), {0: 0}]
+
+
+def no_sheets(rows, places):
+    """Things that are no lists of so many rows of so many whole numbers."""
+    def sheet(height=rows, width=places):
+        return [[1] * width for _ in range(height)]
+
+    wrong = other_kinds() + [
+        0, 1, [], [1] * places, [[[1] * places]] * rows, sheet(rows - 1), sheet(rows + 1), sheet(rows + 6),
+        sheet(rows, places - 1), sheet(rows, places + 1), sheet(rows, places + 6), tuple(sheet()),
+        tuple(tuple(row) for row in sheet()), dict(enumerate(sheet())), str(sheet()), (sheet(),), [sheet()],
+        (sheet(), [], []),
+    ]
+    for row in range(rows):
+        for other in (tuple([1] * places), "1" * places, b"1" * places, None, 1, {0: 1}, [], [1] * (places + 1)):
+            wrong.append(sheet()[:row] + [other] + sheet()[row + 1:])
+        wrong.append(sheet()[:row] + [[1] * (places - 1)] + sheet()[row + 1:])
+        for place in range(places):
+            for other in (True, False, "1", b"1", None, [1], (1,), {1: 1}):
+                one = sheet()
+                one[row][place] = other
+                wrong.append(one)
+    return wrong

@@ -1,8 +1,7 @@
 import unittest
 
 from climbways import errors
-
-NAMES = ["NoLand", "NoCell", "NoNumber", "NoWay", "NoWeights", "NoText", "NoName", "NoRow"]
+from tests.helper import REFUSALS
 
 
 class ErrorsTest(unittest.TestCase):
@@ -10,7 +9,7 @@ class ErrorsTest(unittest.TestCase):
         self.assertTrue(issubclass(errors.ClimbError, ValueError))
 
     def test_each_is_a_climb_error_and_a_value_error(self):
-        for name in NAMES:
+        for name in REFUSALS:
             with self.subTest(name=name):
                 with self.assertRaises(errors.ClimbError):
                     raise getattr(errors, name)("told")
@@ -18,14 +17,14 @@ class ErrorsTest(unittest.TestCase):
                 self.assertTrue(issubclass(getattr(errors, name), ValueError))
 
     def test_none_stands_under_another(self):
-        for name in NAMES:
-            for other in NAMES:
+        for name in REFUSALS:
+            for other in REFUSALS:
                 if name != other:
                     with self.subTest(name=name, other=other):
                         self.assertFalse(issubclass(getattr(errors, name), getattr(errors, other)))
 
     def test_any_refusal_is_none_of_them(self):
-        for name in NAMES:
+        for name in REFUSALS:
             with self.subTest(name=name):
                 self.assertFalse(issubclass(errors.ClimbError, getattr(errors, name)))
 

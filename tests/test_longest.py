@@ -5,44 +5,11 @@ import unittest
 from climbways.errors import NoCell, NoLand, NoNumber
 from climbways.longest import all_heights, first_longest, greatest_length, height_of, is_way
 from tests.helper import (
-    CROSS, GREAT, RIGHT_AND_DOWN, SLANT, all_moves, cells_by_hand, drawn_land, no_cells, no_jump_counts, no_lands,
-    other_kinds, small_lands, snake_land, snake_way, ways_by_hand,
+    CROSS, GREAT, JUMP_COUNTS, MIXED, RIGHT_AND_DOWN, SLANT, Watched, cells_by_hand, drawn_land, no_cells,
+    no_jump_counts, no_lands, other_kinds, small_lands, snake_land, snake_way, thronged_land, ways_by_hand,
 )
 
-# Steps lead along the row, jumps down the place.
-MIXED = ([[1, 2, 3], [4, 5, 6], [7, 8, 9]], [(0, 1)], [(1, 0)])
-
 WHOLE_LAND_ASKERS = (all_heights, greatest_length, first_longest)
-
-JUMP_COUNTS = (0, 1, 2, 3, 40, GREAT)
-
-
-class Watched(int):
-    """A number that counts how often it is compared, and stops a test that compares without end."""
-
-    compared = 0
-    most = 300000
-
-    def count(self):
-        Watched.compared += 1
-        if Watched.compared > Watched.most:
-            raise AssertionError("cells are reckoned anew for each way")
-
-    def __gt__(self, other):
-        self.count()
-        return int(self) > int(other)
-
-    def __lt__(self, other):
-        self.count()
-        return int(self) < int(other)
-
-    def __ge__(self, other):
-        self.count()
-        return int(self) >= int(other)
-
-    def __le__(self, other):
-        self.count()
-        return int(self) <= int(other)
 
 
 class IsWayTest(unittest.TestCase):
@@ -234,9 +201,7 @@ class HeightsTest(unittest.TestCase):
                 ahead = heights
 
     def test_a_cell_is_not_reckoned_anew_for_each_way(self):
-        table = [[Watched(6 * row + place) for place in range(6)] for row in range(6)]
-        moves = [move for move in all_moves(3) if move > (0, 0)]
-        land = (table, sorted(moves[0:16:2]), sorted(moves[1:16:2]))
+        land = thronged_land(Watched)
         for j in (0, 3, GREAT):
             for ask in WHOLE_LAND_ASKERS:
                 with self.subTest(j=j, ask=ask.__name__):
