@@ -90,6 +90,20 @@ def check_cell(land, thing):
         raise NoCell("this is no cell of the land")
 
 
+def copied(land):
+    """A land like one that was checked, of new lists."""
+    table, steps, jumps = land
+    return ([list(row) for row in table], list(steps), list(jumps))
+
+
+def with_number(land, cell, number):
+    """A land of new lists with this number in a cell; land, cell and number were checked."""
+    other = copied(land)
+    row, place = cell
+    other[0][row][place] = number
+    return other
+
+
 def number_at(land, cell):
     """The number of a cell."""
     check_land(land)

@@ -2,6 +2,7 @@
 
 import itertools
 import random
+import re
 
 from climbways import errors
 
@@ -18,6 +19,13 @@ MIXED = ([[1, 2, 3], [4, 5, 6], [7, 8, 9]], [(0, 1)], [(1, 0)])
 JUMP_COUNTS = (0, 1, 2, 3, 40, GREAT)
 
 REFUSALS = ("NoLand", "NoCell", "NoNumber", "NoWay", "NoWeights", "NoText", "NoName", "NoRow")
+
+# All signs of which texts are promised to be made: from the blank to ~ but the per cent sign, tabs, line feeds.
+SIGNS = [chr(code) for code in range(32, 127) if chr(code) != "%"] + ["\t", "\n"]
+
+NUMBER_PATTERN = "(?:0|-?[1-9][0-9]*)"
+MOVE_PATTERN = "(?: {0}:{0})".format(NUMBER_PATTERN)
+LAND_PATTERN = re.compile("((?:{0}(?: {0})*\n)+)steps({1}*)\njumps({1}*)".format(NUMBER_PATTERN, MOVE_PATTERN))
 
 
 class Bare:
@@ -122,6 +130,58 @@ def longest_by_hand(land, j):
     let = let_by_hand(land, j)
     length = max(len(way) for way in let)
     return [way for way in let if len(way) == length]
+
+
+def is_land_by_hand(land):
+    """Whether a tuple of a list of rows of numbers and of two lists of tuples of two numbers is a land."""
+    table, steps, jumps = land
+    if not 1 <= len(table) <= 6 or not 1 <= len(table[0]) <= 6 or len({len(row) for row in table}) > 1:
+        return False
+    if any(sorted(set(moves)) != moves or len(moves) > 8 for moves in (steps, jumps)):
+        return False
+    return all(move in all_moves(5) for move in steps + jumps) and not set(steps) & set(jumps)
+
+
+def writing_by_hand(land):
+    """The rows of a land one below the other."""
+    table, steps, jumps = land
+    text = ""
+    for row in table:
+        text += str(row)[1:-1].replace(",", "") + "\n"
+    text += "steps" + "".join(" %d:%d" % move for move in steps) + "\n"
+    return text + "jumps" + "".join(" %d:%d" % move for move in jumps)
+
+
+def way_writing_by_hand(way):
+    """The cells of a way as a desk tells them."""
+    return " ".join("%d:%d" % cell for cell in way)
+
+
+def in_row(text):
+    """A writing as it stands in the rows of a desk."""
+    return text.replace("\n", "/")
+
+
+def read_by_hand(text):
+    """The land that a text writes, or None."""
+    parts = LAND_PATTERN.fullmatch(text)
+    if parts is None:
+        return None
+    table = [[int(word) for word in row.split()] for row in parts[1].splitlines()]
+    steps, jumps = ([tuple(map(int, word.split(":"))) for word in part.split()] for part in (parts[2], parts[3]))
+    return (table, steps, jumps) if is_land_by_hand((table, steps, jumps)) else None
+
+
+def changed_at_each_place(text):
+    """The text with one sign left out, put in or exchanged."""
+    for at in range(len(text) + 1):
+        for sign in SIGNS:
+            yield text[:at] + sign + text[at:]
+    for at in range(len(text)):
+        yield text[:at] + text[at + 1:]
+        for sign in SIGNS:
+            if sign != text[at]:
+                yield text[:at] + sign + text[at + 1:]
 
 
 def all_moves(reach):
@@ -316,4 +376,115 @@ def no_sheets(rows, places):
                 one = sheet()
                 one[row][place] = other
                 wrong.append(one)
+    return wrong
+
+
+def no_texts():
+    """Texts that write no land, each with what is wrong with it."""
+    long = "9" * 900
+    nine = " ".join("%d:%d" % move for move in all_moves(1)) + " 2:2"
+    wrong = {
+        "an empty text": "",
+        "a blank": " ",
+        "a line feed": "\n",
+        "two line feeds": "\n\n",
+        "no row of the table": "steps\njumps",
+        "an empty row of the table": "\nsteps\njumps",
+        "a row too few: no jumps": "1\nsteps",
+        "a row too few: no steps": "1\njumps",
+        "the table alone": "1",
+        "a table of three rows alone": "1\n2\n3",
+        "a line feed at the end": "1\nsteps\njumps\n",
+        "a line feed ahead": "\n1\nsteps\njumps",
+        "two line feeds between": "1\n\nsteps\njumps",
+        "two line feeds between steps and jumps": "1\nsteps\n\njumps",
+        "two blanks between numbers": "1  2\nsteps\njumps",
+        "two blanks behind steps": "1\nsteps  0:1\njumps",
+        "two blanks between steps": "1\nsteps 0:1  1:0\njumps",
+        "a blank at the end of a row": "1 \nsteps\njumps",
+        "a blank ahead in a row": " 1\nsteps\njumps",
+        "a blank behind steps": "1\nsteps \njumps",
+        "a blank ahead of steps": "1\n steps\njumps",
+        "a blank behind a step": "1\nsteps 0:1 \njumps",
+        "a blank behind jumps": "1\nsteps\njumps ",
+        "a blank behind a jump": "1\nsteps\njumps 0:1 ",
+        "a blank ahead of :": "1\nsteps 0 :1\njumps",
+        "a blank behind :": "1\nsteps 0: 1\njumps",
+        "a tab between numbers": "1\t2\nsteps\njumps",
+        "a tab behind steps": "1\nsteps\t0:1\njumps",
+        "a tab at the end": "1\nsteps\njumps\t",
+        "a 0 ahead": "01\nsteps\njumps",
+        "00": "00\nsteps\njumps",
+        "a 0 ahead behind -": "-01\nsteps\njumps",
+        "-0": "-0\nsteps\njumps",
+        "-00": "-00\nsteps\njumps",
+        "- alone": "-\nsteps\njumps",
+        "- twice": "--1\nsteps\njumps",
+        "- behind": "1-\nsteps\njumps",
+        "- and a blank": "- 1\nsteps\njumps",
+        "+": "+1\nsteps\njumps",
+        "+0": "+0\nsteps\njumps",
+        "_ between figures": "1_0\nsteps\njumps",
+        "a point": "1.0\nsteps\njumps",
+        "a comma": "1,2\nsteps\njumps",
+        "a letter": "a\nsteps\njumps",
+        "a figure and a letter": "1e1\nsteps\njumps",
+        "figures to another base": "0x1\nsteps\njumps",
+        "a truth": "True\nsteps\njumps",
+        "a move in the table": "0:1\nsteps\njumps",
+        "a 0 ahead in a step": "1\nsteps 00:1\njumps",
+        "a 0 ahead behind :": "1\nsteps 0:01\njumps",
+        "-0 in a step": "1\nsteps -0:1\njumps",
+        "-0 behind :": "1\nsteps 1:-0\njumps",
+        "+ in a step": "1\nsteps 0:+1\njumps",
+        "nothing ahead of :": "1\nsteps :1\njumps",
+        "nothing behind :": "1\nsteps 0:\njumps",
+        ": alone": "1\nsteps :\njumps",
+        "no :": "1\nsteps 01\njumps",
+        ": twice": "1\nsteps 0::1\njumps",
+        "a step of three": "1\nsteps 0:1:1\njumps",
+        "steps with :": "1\nsteps: 0:1\njumps",
+        "no blank behind steps": "1\nsteps0:1\njumps",
+        "great letters": "1\nSteps\njumps",
+        "step": "1\nstep\njumps",
+        "jump": "1\nsteps\njump",
+        "steps twice": "1\nsteps\nsteps",
+        "jumps twice": "1\njumps\njumps",
+        "steps and jumps exchanged": "1\njumps\nsteps",
+        "steps and jumps exchanged, with moves": "1\njumps 0:1\nsteps 1:0",
+        "steps and jumps ahead": "steps\njumps\n1",
+        "a row of the table behind": "1\nsteps\njumps\n1",
+        "a row of the table between": "1\nsteps\n1\njumps",
+        "steps, jumps and steps": "1\nsteps\njumps\nsteps",
+        "steps twice and jumps": "1\nsteps\nsteps\njumps",
+        "rows in one": "1 steps jumps",
+        "rows parted by /": "1/steps/jumps",
+        "a second row that is shorter": "1 2\n3\nsteps\njumps",
+        "a second row that is longer": "1\n2 3\nsteps\njumps",
+        "a last row that is shorter": "1 2\n3 4\n5\nsteps\njumps",
+        "seven rows": "1\n2\n3\n4\n5\n6\n7\nsteps\njumps",
+        "seven numbers in a row": "1 2 3 4 5 6 7\nsteps\njumps",
+        "nine steps": "1\nsteps " + nine + "\njumps",
+        "nine jumps": "1\nsteps\njumps " + nine,
+        "steps that fall": "1\nsteps 1:0 0:1\njumps",
+        "steps that fall behind :": "1\nsteps 0:1 0:-1\njumps",
+        "steps that fall, but rise as signs": "1\nsteps -1:0 -2:0\njumps",
+        "jumps that fall": "1\nsteps\njumps 1:0 0:1",
+        "a step twice": "1\nsteps 0:1 0:1\njumps",
+        "a jump twice": "1\nsteps\njumps 0:1 0:1",
+        "0:0 as a step": "1\nsteps 0:0\njumps",
+        "0:0 as a jump": "1\nsteps\njumps -1:0 0:0",
+        "one in both": "1\nsteps 0:1\njumps 0:1",
+        "one in both, among others": "1\nsteps 0:1 1:0\njumps 1:0 1:1",
+        "a step beyond 5 down": "1\nsteps 6:0\njumps",
+        "a step beyond 5 right": "1\nsteps 0:6\njumps",
+        "a step beyond -5": "1\nsteps -6:0\njumps",
+        "a jump beyond 5": "1\nsteps\njumps 0:-6",
+        "a very long number in a step": "1\nsteps 0:" + long + "\njumps",
+        "a very long number in a jump": "1\nsteps\njumps -" + long + ":0",
+        "a very long number with a 0 ahead": "0" + long + "\nsteps\njumps",
+        "a very long number with a sign at the end": long + "+\nsteps\njumps",
+        "a very long number alone": long,
+        "very many zeros": "0" * 900 + "\nsteps\njumps",
+    }
     return wrong
